@@ -144,12 +144,12 @@ func (p *Packer) forget() {
 
 // Pack packs the pieces, one behind the other.
 func Pack(pieces []string) string {
-	store := &flow.Store{}
-	p := NewPacker(store)
-	// A store takes all, so that no error can come of these.
+	sink := flow.NewSink(-1)
+	p := NewPacker(sink)
+	// Such a sink takes all, so that no error can come of these.
 	for _, piece := range pieces {
 		p.Write(piece)
 	}
 	p.Close()
-	return store.String()
+	return sink.String()
 }

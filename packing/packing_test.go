@@ -60,8 +60,8 @@ func (c *counted) Write(s string) error {
 // Packed bytes go on while more come in; and no more than a few of what came
 // in are kept.
 func TestPackerHandsOnAsItGoes(t *testing.T) {
-	var st flow.Store
-	p := NewPacker(&st)
+	st := flow.NewSink(-1)
+	p := NewPacker(st)
 	for range 100 {
 		if err := p.Write(noise(30000)); err != nil {
 			t.Fatal(err)
@@ -79,7 +79,7 @@ func TestPackerHandsOnAsItGoes(t *testing.T) {
 }
 
 func TestPackerOfOneLongPieceKeepsFew(t *testing.T) {
-	p := NewPacker(&flow.Store{})
+	p := NewPacker(flow.NewSink(-1))
 	p.Write(noise(5 << 20))
 	if len(p.window) > 4*farthest || cap(p.window) > 8*farthest {
 		t.Errorf("%d bytes are kept", len(p.window))
@@ -111,8 +111,8 @@ func TestPackingDoesNotHangOnTheSplit(t *testing.T) {
 	all := noise(5000) + strings.Repeat("abcde", 3000) + noise(5000) + strings.Repeat("x", 70000) + noise(40000)
 	want := Pack([]string{all})
 	for _, n := range []int{1, 3, 100, 258, 261, 5000, 32768, 32769} {
-		var st flow.Store
-		p := NewPacker(&st)
+		st := flow.NewSink(-1)
+		p := NewPacker(st)
 		for rest := all; rest != ""; rest = rest[min(n, len(rest)):] {
 			p.Write(rest[:min(n, len(rest))])
 		}
