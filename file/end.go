@@ -37,7 +37,7 @@ func (f *File) table() string {
 
 func tenDigits(n int) string {
 	s := strconv.Itoa(n)
-	return strings.Repeat("0", 10-len(s)) + s
+	return strings.Repeat("0", max(0, 10-len(s))) + s
 }
 
 // ending is what the objects behind the contents are. A number of 0 is that

@@ -59,30 +59,57 @@ func (f *File) object(body string) error {
 	return f.out.Write(body + objectEnd)
 }
 
+// BeginPage begins a page.
+func (f *File) BeginPage(width int, height int) (*Page, error) {
+	if err := f.beginContent(width, height); err != nil {
+		return nil, err
+	}
+	packed := flow.NewCounter(f.out)
+	packer := packing.NewPacker(packed)
+	return &Page{file: f, drawn: flow.NewCounter(packer), packer: packer, packed: packed}, nil
+}
+
+// PackedPage sends a page whose operations are packed already.
+func (f *File) PackedPage(width int, height int, packed string) error {
+	if err := f.beginContent(width, height); err != nil {
+		return err
+	}
+	if err := f.out.Write(packed); err != nil {
+		return err
+	}
+	return f.endContent(len(packed))
+}
+
+// beginContent begins a page by its content, up to the packed bytes.
+func (f *File) beginContent(width int, height int) error {
+	if err := f.Begin(); err != nil {
+		return err
+	}
+	if err := f.beginObject(); err != nil {
+		return err
+	}
+	// How many bytes there will be is told by the object behind them.
+	if err := f.out.Write("<< /Filter /FlateDecode /Length " + written.Name(f.nextNumber()) + " >>\nstream\n"); err != nil {
+		return err
+	}
+	f.sizes = append(f.sizes, size{width, height})
+	return nil
+}
+
+// endContent ends a page's content, which has so many packed bytes.
+func (f *File) endContent(packed int) error {
+	if err := f.out.Write("\nendstream" + objectEnd); err != nil {
+		return err
+	}
+	return f.object(strconv.Itoa(packed))
+}
+
 // Page is a flow.Writer that takes what is drawn on the page that is open.
 type Page struct {
 	file   *File
 	drawn  *flow.Counter
 	packer *packing.Packer
 	packed *flow.Counter
-}
-
-// BeginPage begins a page.
-func (f *File) BeginPage(width int, height int) (*Page, error) {
-	if err := f.Begin(); err != nil {
-		return nil, err
-	}
-	if err := f.beginObject(); err != nil {
-		return nil, err
-	}
-	// How many bytes there will be is told by the object behind them.
-	if err := f.out.Write("<< /Filter /FlateDecode /Length " + written.Name(f.nextNumber()) + " >>\nstream\n"); err != nil {
-		return nil, err
-	}
-	f.sizes = append(f.sizes, size{width, height})
-	packed := flow.NewCounter(f.out)
-	packer := packing.NewPacker(packed)
-	return &Page{file: f, drawn: flow.NewCounter(packer), packer: packer, packed: packed}, nil
 }
 
 // Room tells how many bytes more may be drawn.
@@ -96,8 +123,5 @@ func (p *Page) End() error {
 	if err := p.packer.Close(); err != nil {
 		return err
 	}
-	if err := p.file.out.Write("\nendstream" + objectEnd); err != nil {
-		return err
-	}
-	return p.file.object(strconv.Itoa(p.packed.Count()))
+	return p.file.endContent(p.packed.Count())
 }

@@ -1,10 +1,16 @@
-// Package flow: how the parts of the writer hand bytes on to one another.
+// Package flow: how the parts of the program hand bytes on to one another.
 package flow
 
-import "errors"
+import (
+	"errors"
+	"strings"
+)
 
 // ErrFull says that a sink has not taken all that was sent to it.
 var ErrFull = errors.New("flow: the sink takes no more")
+
+// ErrOther says that something else was sent than what should come.
+var ErrOther = errors.New("flow: other bytes than those that should come")
 
 // Writer takes the next bytes. An error says that it has not taken all of
 // them; who gets one sends nothing more.
@@ -71,3 +77,25 @@ func (c *Counter) Write(s string) error {
 
 // Count tells how many bytes came so far.
 func (c *Counter) Count() int { return c.count }
+
+// Match is a Writer that takes one given text and nothing else: it tells
+// whether what was read would be written so.
+type Match struct {
+	rest string
+}
+
+// NewMatch makes a match of s.
+func NewMatch(s string) *Match { return &Match{rest: s} }
+
+// Write takes s, if that is what should come next.
+func (m *Match) Write(s string) error {
+	rest, ok := strings.CutPrefix(m.rest, s)
+	if !ok {
+		return ErrOther
+	}
+	m.rest = rest
+	return nil
+}
+
+// Rest is what should still come.
+func (m *Match) Rest() string { return m.rest }

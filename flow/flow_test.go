@@ -76,3 +76,26 @@ func TestCounterAlone(t *testing.T) {
 		t.Errorf("count %d", c.Count())
 	}
 }
+
+func TestMatchTakesItsTextAlone(t *testing.T) {
+	m := NewMatch("some text")
+	for _, c := range []struct {
+		s, rest string
+		ok      bool
+	}{
+		{"", "some text", true},
+		{"x", "some text", false},
+		{"some", " text", true},
+		{"text", " text", false},
+		{" text and more", " text", false},
+		{" te", "xt", true},
+		{"xt", "", true},
+		{"", "", true},
+		{"x", "", false},
+	} {
+		err := Writer(m).Write(c.s)
+		if c.ok != (err == nil) || c.ok == errors.Is(err, ErrOther) || m.Rest() != c.rest {
+			t.Errorf("%q: %v, the rest is %q", c.s, err, m.Rest())
+		}
+	}
+}

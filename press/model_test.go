@@ -74,13 +74,7 @@ type model struct {
 func (m *model) page() *api.Page { return &m.doc.Pages[len(m.doc.Pages)-1] }
 
 // pageText is the operations of the page that is open, as written.
-func (m *model) pageText() string {
-	text := ""
-	for _, o := range m.page().Ops {
-		text += opText(o)
-	}
-	return text
-}
+func (m *model) pageText() string { return opsText(m.page().Ops) }
 
 // answer tells what a call answers, and keeps what it does.
 func (m *model) answer(c call) api.Errno {
@@ -279,8 +273,7 @@ func inflated(t *testing.T, s string) (string, int) {
 	return string(all), len(s) - r.Len()
 }
 
-// fileText makes the file of a document; the packed bytes are taken from the
-// file that it is held against.
+// fileText makes the file of a document.
 type fileText struct {
 	text   string
 	begins []int
@@ -292,12 +285,52 @@ func (f *fileText) object(body string) int {
 	return len(f.begins)
 }
 
-// wantFile holds a file against that of a document.
+// contentHead stands ahead of the packed bytes, whose length is in the object
+// of that number.
+func contentHead(length int) string {
+	return fmt.Sprintf("<< /Filter /FlateDecode /Length %d 0 R >>\nstream\n", length)
+}
+
+func (f *fileText) content(packed string) {
+	f.object(contentHead(len(f.begins)+2) + packed + "\nendstream")
+	f.object(fmt.Sprint(len(packed)))
+}
+
+// fileOf makes the file of a document whose contents are packed already.
+func fileOf(doc api.Document, packed []string) string {
+	f := &fileText{text: "%PDF-1.7\n"}
+	for _, p := range packed {
+		f.content(p)
+	}
+	f.end(doc)
+	return f.text
+}
+
+// packedBy packs what is drawn on each page.
+func packedBy(pack func(string) string, doc api.Document) []string {
+	var packed []string
+	for _, p := range doc.Pages {
+		packed = append(packed, pack(opsText(p.Ops)))
+	}
+	return packed
+}
+
+// opsText is the operations of a page, as written.
+func opsText(ops []api.Op) string {
+	var b strings.Builder
+	for _, o := range ops {
+		b.WriteString(opText(o))
+	}
+	return b.String()
+}
+
+// wantFile holds a file against that of a document; only the packed bytes are
+// taken as they are in it.
 func wantFile(t *testing.T, got string, doc api.Document) {
 	t.Helper()
 	f := &fileText{text: "%PDF-1.7\n"}
-	for i, p := range doc.Pages {
-		f.content(t, got, 2*i+2, p)
+	for _, p := range doc.Pages {
+		f.content(packedIn(t, got, f, p))
 	}
 	f.end(doc)
 	if got != f.text {
@@ -305,23 +338,19 @@ func wantFile(t *testing.T, got string, doc api.Document) {
 	}
 }
 
-func (f *fileText) content(t *testing.T, got string, length int, p api.Page) {
+// packedIn is what a page has packed in a file, of which f is the beginning.
+func packedIn(t *testing.T, got string, f *fileText, p api.Page) string {
 	t.Helper()
-	head := fmt.Sprintf("<< /Filter /FlateDecode /Length %d 0 R >>\nstream\n", length)
-	at := len(f.text) + len(fmt.Sprintf("%d 0 obj\n", length-1)) + len(head)
+	number := len(f.begins) + 1
+	at := len(f.text) + len(fmt.Sprintf("%d 0 obj\n", number)) + len(contentHead(number+1))
 	if at > len(got) {
-		t.Fatalf("the file ends ahead of object %d: %.80q", length, got)
+		t.Fatalf("the file ends ahead of object %d: %.80q", number, got)
 	}
 	raw, took := inflated(t, got[at:])
-	want := ""
-	for _, o := range p.Ops {
-		want += opText(o)
+	if want := opsText(p.Ops); raw != want {
+		t.Fatalf("content %d differs from byte %d on:\n%s", number, sameUpTo(raw, want), differing(raw, want))
 	}
-	if raw != want {
-		t.Fatalf("content %d differs from byte %d on:\n%s", length-1, sameUpTo(raw, want), differing(raw, want))
-	}
-	f.object(head + got[at:at+took] + "\nendstream")
-	f.object(fmt.Sprint(took))
+	return got[at : at+took]
 }
 
 func (f *fileText) end(doc api.Document) {
@@ -333,6 +362,11 @@ func (f *fileText) end(doc api.Document) {
 		info = fmt.Sprintf("/Info %d 0 R ", f.object("<< /Title "+stringText(doc.Title)+" >>"))
 	}
 	catalog := f.object(fmt.Sprintf("<< /Type /Catalog /Pages %d 0 R %s>>", root, outlines))
+	f.tail(catalog, info)
+}
+
+// tail is all that stands behind the objects.
+func (f *fileText) tail(catalog int, info string) {
 	at, n := len(f.text), len(f.begins)+1
 	f.text += fmt.Sprintf("xref\n0 %d\n0000000000 65535 f \n", n)
 	for _, b := range f.begins {

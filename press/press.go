@@ -6,7 +6,9 @@ import (
 
 	"press/api"
 	"press/drawing"
+	"press/file"
 	"press/packing"
+	"press/reading"
 )
 
 // Pack packs bytes, which come in pieces (P3).
@@ -38,7 +40,7 @@ func (w *Writer) Page(width int, height int) api.Errno {
 		return e
 	case r.page != nil || r.file == nil:
 		return api.ErrState
-	case !isSide(width) || !isSide(height):
+	case !file.IsSide(width) || !file.IsSide(height):
 		return api.ErrArg
 	case r.file.Pages() >= api.MaxPages:
 		return api.ErrLimit
@@ -100,7 +102,7 @@ func (w *Writer) Mark(title string) api.Errno {
 		return e
 	case r.page == nil:
 		return api.ErrState
-	case title == "" || len(title) > api.MaxText:
+	case !file.IsMark(title):
 		return api.ErrArg
 	case len(r.marks) >= api.MaxMarks:
 		return api.ErrLimit
@@ -117,7 +119,7 @@ func (w *Writer) Title(title string) api.Errno {
 		return e
 	case r.file == nil:
 		return api.ErrState
-	case len(title) > api.MaxText:
+	case !file.IsTitle(title):
 		return api.ErrArg
 	}
 	r.title = strings.Clone(title)
@@ -167,4 +169,10 @@ func (w *Writer) Bytes() string {
 }
 
 // Read reads a file (P13).
-func Read(s string) (api.Document, api.Errno) { return api.Document{}, api.OK }
+func Read(s string) (api.Document, api.Errno) {
+	d, ok := reading.Read(s)
+	if !ok {
+		return api.Document{}, api.ErrBytes
+	}
+	return d, api.OK
+}

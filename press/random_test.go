@@ -92,7 +92,7 @@ func anyCall(r *rand.Rand, m *model) call {
 	return draw(anyOp(r))
 }
 
-// P1, P5 to P11: any calls, held against the model; and the same calls with a
+// P1, P5 to P13: any calls, held against the model; and the same calls with a
 // limit, held against those without.
 func TestAnyCalls(t *testing.T) {
 	for seed := range int64(300) {
@@ -116,6 +116,7 @@ func TestAnyCalls(t *testing.T) {
 		}
 		calls = append(calls, closing(t, w, m)...)
 		wantFile(t, w.Bytes(), m.doc)
+		wantRead(t, "the file of these calls", w.Bytes(), m.doc)
 		for range 4 {
 			wantLimited(t, r.Intn(len(w.Bytes())+2), calls)
 		}

@@ -54,9 +54,6 @@ func sent(err error) api.Errno {
 	return api.OK
 }
 
-// isSide tells whether a page may be so wide or high.
-func isSide(n int) bool { return n >= 1 && n <= api.MaxPoint }
-
 func (r *report) beginPage(width int, height int) api.Errno {
 	page, err := r.file.BeginPage(width, height)
 	r.page = page

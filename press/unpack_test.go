@@ -266,6 +266,18 @@ func plainBlocks(s string) string {
 	return string(b)
 }
 
+// Blocks that end ahead of a last one, at any bit of a byte.
+func TestUnpackCutBetweenBlocks(t *testing.T) {
+	for n := range 16 {
+		m := new(maker)
+		for range n {
+			m.begin(0, 1).end()
+		}
+		m.begin(0, 1).text(strings.Repeat("\xff", n)).end()
+		wantRefused(t, "cut between blocks", head+m.bytes())
+	}
+}
+
 // Blocks that give nothing are packed too, however many.
 func TestUnpackManyEmptyBlocks(t *testing.T) {
 	empty := strings.Repeat("\x00\x00\x00\xff\xff", 500000)

@@ -57,7 +57,8 @@ func playSteps(t *testing.T, w *press.Writer, m *model, steps []step) {
 	}
 }
 
-// wantSteps is playSteps on a new writer, which is closed behind them.
+// wantSteps is playSteps on a new writer, which is closed behind them and whose
+// file is read back.
 func wantSteps(t *testing.T, steps []step) {
 	t.Helper()
 	w, m := press.New(-1), &model{}
@@ -66,6 +67,7 @@ func wantSteps(t *testing.T, steps []step) {
 		playSteps(t, w, m, []step{{closeFile, api.OK}})
 	}
 	wantFile(t, w.Bytes(), m.doc)
+	wantRead(t, "the file of these calls", w.Bytes(), m.doc)
 }
 
 func oks(calls ...call) []step {
